@@ -2,6 +2,7 @@ package schema_test
 
 import (
 	"math"
+	"runtime/debug"
 	"strconv"
 	"strings"
 	"testing"
@@ -260,6 +261,36 @@ func TestLoopsOfChains(t *testing.T) {
 		last.Fields = []api.Field{{Type: api.Type{Kind: api.Struct, Ref: len(s.Structs) / 2}}}
 		if !schema.Loops(s) {
 			t.Error("a chain that leads back doesn't loop")
+		}
+	}
+}
+
+// P1: what is no schema may be deep, and Go's stack has an end.
+func TestLoopsOfADeepChain(t *testing.T) {
+	defer debug.SetMaxStack(debug.SetMaxStack(1 << 20))
+	s := chain(300000, 2)
+	if schema.Loops(s) {
+		t.Error("a deep chain loops")
+	}
+	s.Structs[len(s.Structs)-1].Fields = []api.Field{{Type: api.Type{Kind: api.Struct, Ref: 0}}}
+	if !schema.Loops(s) {
+		t.Error("a deep chain that leads back to its root doesn't loop")
+	}
+}
+
+// P5.3: three structs with two fields each, of each of the structs or of none of them, and each root.
+func TestLoopsOfAllSmallSchemas(t *testing.T) {
+	types := []api.Type{{Kind: api.Struct}, {Kind: api.Struct, Ref: 1, Lists: 1}, {Kind: api.Struct, Ref: 2}, {Kind: api.Enum, Ref: 1}}
+	for n := range 1 << 12 {
+		s := api.Schema{Structs: make([]api.Record, 3)}
+		for i := range 6 {
+			one := &s.Structs[i/2]
+			one.Fields = append(one.Fields, api.Field{Type: types[n>>(2*i)&3]})
+		}
+		for s.Root = range 3 {
+			if got := schema.Loops(s); got != comesBack(s) {
+				t.Fatalf("%v: Loops %v", s, got)
+			}
 		}
 	}
 }
