@@ -3,6 +3,7 @@ package view
 import (
 	"transom/api"
 	"transom/schema"
+	"transom/sorts"
 	"transom/wire"
 )
 
@@ -13,35 +14,35 @@ func Fits(s api.Schema, rec int, v api.Val) bool {
 
 // fits: is a value one of a type, where it may be so deep?
 func fits(s api.Schema, t api.Type, v api.Val, room int) bool {
-	of := sortOf(t)
+	of := sorts.Of(t)
 	if !bare(of, v) {
 		return false
 	}
 	switch of {
-	case aNumber:
+	case sorts.Number:
 		return schema.Fits(s, t, v.Num)
-	case someBytes:
+	case sorts.Bytes:
 		return t.Kind == api.Data || wire.Utf8(v.Bytes) < 0
-	case aList:
-		return listFits(s, element(t), v.Kids, room)
-	case aStruct:
+	case sorts.List:
+		return listFits(s, sorts.Element(t), v.Kids, room)
+	case sorts.Struct:
 		return !v.Has || structFits(s, t.Ref, v.Kids, room)
 	}
 	return false
 }
 
 // bare: is nothing set in a value but what its type has?
-func bare(of sort, v api.Val) bool {
-	return (of == aNumber || v.Num == 0) &&
-		(of == someBytes || len(v.Bytes) == 0) &&
-		(of == aList || v.Has || len(v.Kids) == 0) &&
-		(of == aStruct || !v.Has)
+func bare(of sorts.Sort, v api.Val) bool {
+	return (of == sorts.Number || v.Num == 0) &&
+		(of == sorts.Bytes || len(v.Bytes) == 0) &&
+		(of == sorts.List || v.Has || len(v.Kids) == 0) &&
+		(of == sorts.Struct || !v.Has)
 }
 
 // listFits: are elements all of a type? An empty list isn't deep.
 func listFits(s api.Schema, t api.Type, kids []api.Val, room int) bool {
 	for _, kid := range kids {
-		missing := sortOf(t) == aStruct && !kid.Has
+		missing := sorts.Of(t) == sorts.Struct && !kid.Has
 		if room == 0 || missing || !fits(s, t, kid, room-1) {
 			return false
 		}
@@ -61,4 +62,12 @@ func structFits(s api.Schema, rec int, kids []api.Val, room int) bool {
 		}
 	}
 	return true
+}
+
+// fieldsOf: a struct's fields; false: it is no place of one.
+func fieldsOf(s api.Schema, rec int) ([]api.Field, bool) {
+	if rec < 0 || rec >= len(s.Structs) {
+		return nil, false
+	}
+	return s.Structs[rec].Fields, true
 }

@@ -4,6 +4,7 @@ import (
 	"bytes"
 
 	"transom/api"
+	"transom/sorts"
 )
 
 // Tree: a view as a value, of a struct of a schema.
@@ -45,14 +46,14 @@ func listTree(s api.Schema, t api.Type, l Items, room int) (api.Val, bool) {
 
 // kidTree: a field or an element of a type.
 func kidTree(s api.Schema, t api.Type, v View, i, room int) (api.Val, bool) {
-	switch sortOf(t) {
-	case aNumber:
+	switch sorts.Of(t) {
+	case sorts.Number:
 		return api.Val{Num: v.Num(i)}, true
-	case someBytes:
+	case sorts.Bytes:
 		return api.Val{Bytes: bytes.Clone(v.Bytes(i))}, true
-	case aList:
-		return listTree(s, element(t), v.List(i), room)
-	case aStruct:
+	case sorts.List:
+		return listTree(s, sorts.Element(t), v.List(i), room)
+	case sorts.Struct:
 		if sub, there := v.Sub(i); there {
 			return structTree(s, t.Ref, sub, room)
 		}
